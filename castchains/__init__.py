@@ -1,0 +1,1 @@
+"""Castchains: integer conversions one after another."""
