@@ -1,10 +1,17 @@
-"""How the values of a chain lie: what forms and values have in common.
+"""How the values of a chain lie: what most files of the interface have in common.
 
 Ranges are a list of tuples (low, high), ascending, between which at least
 one integer is missing.
 """
 
+from castchains.errors import InvalidRange
 from castchains.steps import cast, check_chain, lowest_result
+
+
+def check_range(first, last):
+    """Raises InvalidRange if the first number is greater than the last one."""
+    if first > last:
+        raise InvalidRange((first, last))
 
 
 def count_numbers(ranges):
@@ -31,6 +38,24 @@ def holds(ranges, number):
 def moved(ranges, distance):
     """Returns the ranges with a distance added to each number."""
     return [(low + distance, high + distance) for low, high in ranges]
+
+
+def overlap(ranges, first, last):
+    """Returns the numbers of the ranges from the first to the last one, as ranges."""
+    return [(max(low, first), min(high, last)) for low, high in ranges if low <= last and high >= first]
+
+
+def alike(ranges, first, last, period):
+    """Returns the numbers of the ranges that differ from one of first to last by a multiple of the period.
+
+    No range has more numbers than the period, and first to last are fewer.
+    """
+    found = []
+    for low, high in ranges:
+        begin = low - (low - first) % period
+        for start in (begin, begin + period):
+            found.extend(overlap([(low, high)], start, start + last - first))
+    return found
 
 
 def parted(ranges, last):

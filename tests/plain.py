@@ -1,6 +1,7 @@
 """What the document says, done number by number: slow, and only for small widths."""
 
 from functools import lru_cache
+from heapq import heappop, heappush
 from itertools import product
 
 STEPS = [("u", 1), ("s", 1), ("u", 2), ("s", 2), ("u", 3), ("s", 3),
@@ -83,3 +84,50 @@ def small_forms():
                 for least in (-9, 0, 4):
                     forms.append((shift, widths, cuts, least))
     return forms
+
+
+@lru_cache(maxsize=None)
+def costs_behind_casts(widest, step_cost):
+    """What the cheapest chains of casts of at most some width cost that end in a cast or are empty.
+
+    A cast costs 1, an addition step_cost. The keys are what a chain makes of the numbers from 0 to
+    2 ** widest; the last one tells functions that repeat from additions alone. Behind an addition a
+    cast of n bits takes a constant as its remainder modulo 2 ** n, so this tries all constants.
+    """
+    size = 2 ** widest
+    start = tuple(range(size + 1))
+    costs = {start: 0}
+    queue = [(0, start)]
+    while queue:
+        cost, results = heappop(queue)
+        if cost > costs[results]:
+            continue
+        for width in range(1, widest + 1):
+            for constant in range(2 ** width):
+                rests = [(number + constant) % 2 ** width for number in results]
+                # the two casts, as they are where all numbers are at hand as remainders
+                for limit in (2 ** width, 2 ** (width - 1)):
+                    found = tuple([rest if rest < limit else rest - 2 ** width for rest in rests])
+                    whole = cost + 1 + (step_cost if constant else 0)
+                    if whole < costs.get(found, whole + 1):
+                        costs[found] = whole
+                        heappush(queue, (whole, found))
+    return costs
+
+
+@lru_cache(maxsize=None)
+def costs_before_addition(widest, step_cost):
+    """The same for chains with an addition behind them, by what they make of numbers less the first result."""
+    costs = {}
+    for results, cost in costs_behind_casts(widest, step_cost).items():
+        shape = tuple([number - results[0] for number in results])
+        costs[shape] = min(cost + step_cost, costs.get(shape, cost + step_cost))
+    return costs
+
+
+def least_cost(chain, widest, step_cost):
+    """The least cost of a chain with the same function, found by trying."""
+    results = tuple([run(number, chain) for number in range(2 ** widest + 1)])
+    shape = tuple([number - results[0] for number in results])
+    added = costs_before_addition(widest, step_cost)[shape]
+    return min(added, costs_behind_casts(widest, step_cost).get(results, added))

@@ -3,6 +3,10 @@
 import unittest
 
 from castchains.forms import chain_of, form, same_function
+from castchains.parting import commute, parting_number
+from castchains.ranges import count_inputs, outputs, unchanged
+from castchains.repeating import repeated, undoing
+from castchains.shortest import fewest_casts, fewest_steps, shortest
 from castchains.steps import converted, fits, stages
 from castchains.values import nth_value, origins, value_intervals
 
@@ -21,6 +25,17 @@ class ArgumentsTest(unittest.TestCase):
         self.assertEqual(value_intervals(chain=CHAIN), [(0, 132), (65413, 65535)])
         self.assertEqual(nth_value(number=133, chain=CHAIN), 65413)
         self.assertEqual(origins(value=65413, chain=CHAIN), (128, 256))
+        self.assertEqual(outputs(last=130, first=120, chain=CHAIN), [(125, 132), (65413, 65415)])
+        self.assertEqual(count_inputs(high=126, low=125, last=511, first=0, chain=CHAIN), 4)
+        self.assertEqual(unchanged(chain=CHAIN), [])
+        self.assertEqual(fewest_casts(chain=CHAIN), 2)
+        self.assertEqual(fewest_steps(chain=CHAIN), 3)
+        self.assertEqual(shortest(chain=[("u", 9), ("s", 8)]), [("s", 8)])
+        self.assertEqual(parting_number(second=[("u", 9)], first=[("u", 8)]), 256)
+        self.assertIs(commute(second=CHAIN, first=[("s", 8)]), False)
+        self.assertEqual(repeated(times=2, number=250, chain=CHAIN), 4)
+        self.assertEqual(undoing(last=256, first=1, chain=[("add", 4)]), [("add", -4)])
+        self.assertIs(undoing(last=256, first=0, chain=CHAIN), None)
 
     def test_arguments_stay_as_they_were(self):
         calls = [
@@ -31,11 +46,28 @@ class ArgumentsTest(unittest.TestCase):
             value_intervals,
             lambda chain: nth_value(chain, 3),
             lambda chain: origins(chain, 3),
+            lambda chain: outputs(chain, 0, 9),
+            lambda chain: outputs(chain, 0, 999),
+            lambda chain: count_inputs(chain, 0, 9, 0, 3),
+            unchanged,
+            fewest_casts,
+            fewest_steps,
+            shortest,
+            lambda chain: parting_number(chain, chain),
+            lambda chain: commute(chain, chain),
+            lambda chain: repeated(200, chain, 3),
+            lambda chain: undoing(chain, 0, 9),
         ]
         for call in calls:
             chain = list(CHAIN)
             call(chain)
             self.assertEqual(chain, CHAIN)
+
+    def test_second_arguments_stay_as_they_were(self):
+        for call in (same_function, parting_number, commute):
+            first, second = [("u", 9)], list(CHAIN)
+            call(first, second)
+            self.assertEqual((first, second), ([("u", 9)], CHAIN))
 
     def test_nothing_is_kept_from_call_to_call(self):
         chain = list(CHAIN)
@@ -58,6 +90,21 @@ class ArgumentsTest(unittest.TestCase):
             first.clear()
             self.assertEqual(call(argument), wanted)
             self.assertIsNot(call(argument), call(argument))
+
+    def test_returned_lists_are_not_those_that_were_passed(self):
+        for chain in ([], [("add", 5)], [("u", 8)], [("s", 8), ("u", 16)], [("add", 1), ("s", 3), ("add", 1)]):
+            for call in (shortest, unchanged,
+                         lambda chain: outputs(chain, 0, 3), lambda chain: outputs(chain, 0, 10 ** 9),
+                         lambda chain: undoing(chain, 0, 3)):
+                before = list(chain)
+                first = call(chain)
+                if first is None:
+                    continue
+                wanted = list(first)
+                first.append(("add", 1))
+                self.assertEqual(chain, before)
+                self.assertEqual(call(chain), wanted)
+                self.assertIsNot(call(chain), call(chain))
 
 
 if __name__ == "__main__":

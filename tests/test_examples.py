@@ -26,6 +26,32 @@ class ExamplesTest(unittest.TestCase):
             [value_intervals(chain), nth_value(chain, 188), origins(chain, -32768), origins(chain, 0), origins([('add', 3)], 10)],
             [[(-32768, -32581), (32700, 32767)], 32700, (68, 256), None, (7, None)])
 
+    def test_ranges(self):
+        from castchains.ranges import count_inputs, outputs, unchanged
+        self.assertEqual(
+            [outputs([('s', 8)], 100, 130), count_inputs([('s', 8)], 0, 10 ** 30 - 1, -1, 0), unchanged([('s', 8), ('u', 16)])],
+            [[(-128, -126), (100, 127)], 7812500000000000000000000000, [(0, 127), (65408, 65535)]])
+
+    def test_shortest(self):
+        from castchains.shortest import fewest_casts, fewest_steps, shortest
+        self.assertEqual(
+            [shortest([('add', 128), ('u', 8), ('add', -128)]), fewest_steps([('s', 8), ('u', 16), ('add', 65536)]), fewest_casts([('u', 8), ('s', 16)])],
+            [[('s', 8)], 3, 1])
+
+    def test_parting(self):
+        from castchains.parting import commute, parting_number
+        self.assertEqual(
+            [parting_number([('u', 8)], [('s', 8)]), parting_number([('u', 8)], [('u', 9)]), commute([('u', 8)], [('s', 8)]), commute([('u', 4)], [('u', 9)])],
+            [128, 256, False, True])
+
+    def test_repeating(self):
+        from castchains.repeating import repeated, undoing
+        from castchains.steps import converted
+        chain = [('add', 100), ('s', 8)]
+        self.assertEqual(
+            [repeated(5, chain, 10 ** 20), [converted(converted(x, chain), undoing(chain, 0, 255)) for x in [0, 9, 255]], undoing(chain, 0, 256)],
+            [5, [0, 9, 255], None])
+
 
 if __name__ == "__main__":
     unittest.main()

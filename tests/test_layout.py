@@ -13,6 +13,11 @@ INTERFACE = {
     "steps": {"converted": ["number", "chain"], "stages": ["number", "chain"], "fits": ["number", "word", "width"]},
     "forms": {"form": ["chain"], "same_function": ["first", "second"], "chain_of": ["wanted"]},
     "values": {"value_intervals": ["chain"], "nth_value": ["chain", "number"], "origins": ["chain", "value"]},
+    "ranges": {"outputs": ["chain", "first", "last"], "count_inputs": ["chain", "first", "last", "low", "high"],
+               "unchanged": ["chain"]},
+    "shortest": {"fewest_casts": ["chain"], "fewest_steps": ["chain"], "shortest": ["chain"]},
+    "parting": {"parting_number": ["first", "second"], "commute": ["first", "second"]},
+    "repeating": {"repeated": ["number", "chain", "times"], "undoing": ["chain", "first", "last"]},
 }
 
 
