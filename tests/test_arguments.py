@@ -2,12 +2,16 @@
 
 import unittest
 
+from castchains.counting import count_functions, form_number, nth_form
 from castchains.forms import chain_of, form, same_function
 from castchains.parting import commute, parting_number
 from castchains.ranges import count_inputs, outputs, unchanged
+from castchains.readings import read_chain
+from castchains.registers import CheckedRegister, Register
 from castchains.repeating import repeated, undoing
 from castchains.shortest import fewest_casts, fewest_steps, shortest
 from castchains.steps import converted, fits, stages
+from castchains.texts import show_chain
 from castchains.values import nth_value, origins, value_intervals
 
 CHAIN = [("s", 8), ("add", 5), ("u", 16)]
@@ -36,6 +40,13 @@ class ArgumentsTest(unittest.TestCase):
         self.assertEqual(repeated(times=2, number=250, chain=CHAIN), 4)
         self.assertEqual(undoing(last=256, first=1, chain=[("add", 4)]), [("add", -4)])
         self.assertIs(undoing(last=256, first=0, chain=CHAIN), None)
+        self.assertEqual(count_functions(widths=(2, 3)), 12)
+        self.assertEqual(nth_form(number=4, least=5, widths=(2, 3)), (1, (2, 3), (2,), 5))
+        self.assertEqual(form_number(wanted=(1, (2, 3), (2,), 5)), 4)
+        self.assertEqual(show_chain(chain=CHAIN), "s8 +5 u16")
+        self.assertEqual(read_chain(text="s8 +5 u16"), CHAIN)
+        self.assertEqual(Register(number=200), Register.read(text="200: none"))
+        self.assertEqual(CheckedRegister(number=200), CheckedRegister.read(text="200: none"))
 
     def test_arguments_stay_as_they_were(self):
         calls = [
@@ -57,6 +68,9 @@ class ArgumentsTest(unittest.TestCase):
             lambda chain: commute(chain, chain),
             lambda chain: repeated(200, chain, 3),
             lambda chain: undoing(chain, 0, 9),
+            show_chain,
+            lambda chain: Register(200).convert(*chain),
+            lambda chain: CheckedRegister(20).convert(*chain),
         ]
         for call in calls:
             chain = list(CHAIN)
@@ -68,6 +82,23 @@ class ArgumentsTest(unittest.TestCase):
             first, second = [("u", 9)], list(CHAIN)
             call(first, second)
             self.assertEqual((first, second), ([("u", 9)], CHAIN))
+
+    def test_widths_stay_as_they_were(self):
+        for call in (count_functions, lambda widths: nth_form(widths, 5, 4)):
+            widths = [2, 3]
+            call(widths)
+            self.assertEqual(widths, [2, 3])
+        widths = [2, 3]
+        found = nth_form(widths, 5, 4)
+        widths.append(4)
+        self.assertEqual(found, (1, (2, 3), (2,), 5))
+
+    def test_registers_keep_no_chain(self):
+        for made_by in (Register, CheckedRegister):
+            made, chain = made_by(20), list(CHAIN)
+            made.convert(*chain)
+            chain.clear()
+            self.assertEqual(made.steps, CHAIN)
 
     def test_nothing_is_kept_from_call_to_call(self):
         chain = list(CHAIN)
@@ -84,6 +115,7 @@ class ArgumentsTest(unittest.TestCase):
 
     def test_returned_lists_are_new(self):
         for call, argument in [(value_intervals, CHAIN), (value_intervals, [("u", 8)]),
+                               (read_chain, "none"), (read_chain, "u8 +5"),
                                (chain_of, FORM), (chain_of, (3, (), (), None)), (chain_of, (0, (1,), (), 0))]:
             first = call(argument)
             wanted = list(first)

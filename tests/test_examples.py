@@ -52,6 +52,38 @@ class ExamplesTest(unittest.TestCase):
             [repeated(5, chain, 10 ** 20), [converted(converted(x, chain), undoing(chain, 0, 255)) for x in [0, 9, 255]], undoing(chain, 0, 256)],
             [5, [0, 9, 255], None])
 
+    def test_counting(self):
+        from castchains.counting import count_functions, form_number, nth_form
+        self.assertEqual(
+            [count_functions((1, 3)), nth_form((2, 3), 5, 4), form_number((1, (2, 3), (2,), 5))],
+            [2, (1, (2, 3), (2,), 5), 4])
+
+    def test_registers(self):
+        from castchains.registers import CheckedRegister, Register
+        register = Register(300)
+        register.convert(('u', 8), ('add', 4), ('s', 8))
+        self.assertEqual(
+            [register.number, register.changes, list(register.past()), Register.read('5: u8 +3').steps, CheckedRegister(7) == Register(7)],
+            [48, 1, [300, 44, 48, 48], [('u', 8), ('add', 3)], False])
+
+    def test_checked_registers(self):
+        from castchains.errors import ChangedNumber
+        from castchains.registers import CheckedRegister
+        with self.assertRaises(ChangedNumber) as context:
+            CheckedRegister(250).convert(('u', 8), ('add', 10), ('u', 8))
+        self.assertEqual(context.exception.value, 2)
+
+    def test_texts(self):
+        from castchains.texts import show_chain
+        self.assertEqual(show_chain([('u', 8), ('add', 5), ('s', 16), ('add', -3)]), 'u8 +5 s16 -3')
+
+    def test_readings(self):
+        from castchains.errors import Unreadable
+        from castchains.readings import read_chain
+        with self.assertRaises(Unreadable) as context:
+            read_chain('u0')
+        self.assertEqual(context.exception.value, 'u0')
+
 
 if __name__ == "__main__":
     unittest.main()

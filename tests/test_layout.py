@@ -5,6 +5,7 @@ import inspect
 import unittest
 from importlib import import_module
 from pathlib import Path
+from types import FunctionType
 
 PACKAGE = Path(__file__).resolve().parent.parent / "castchains"
 INTERFACE = {
@@ -18,6 +19,15 @@ INTERFACE = {
     "shortest": {"fewest_casts": ["chain"], "fewest_steps": ["chain"], "shortest": ["chain"]},
     "parting": {"parting_number": ["first", "second"], "commute": ["first", "second"]},
     "repeating": {"repeated": ["number", "chain", "times"], "undoing": ["chain", "first", "last"]},
+    "counting": {"count_functions": ["widths"], "nth_form": ["widths", "least", "number"], "form_number": ["wanted"]},
+    "texts": {"show_chain": ["chain"]},
+    "readings": {"read_chain": ["text"]},
+    "registers": {"Register": ["number"], "CheckedRegister": ["number"]},
+}
+METHODS = {
+    "Register": {"number": property, "steps": property, "changes": property, "read": classmethod,
+                 "convert": FunctionType, "undo": FunctionType, "past": FunctionType},
+    "CheckedRegister": {"convert": FunctionType},
 }
 
 
@@ -34,6 +44,13 @@ class LayoutTest(unittest.TestCase):
                     found = getattr(module, name)
                     self.assertEqual(found.__module__, module.__name__)
                     self.assertEqual(list(inspect.signature(found).parameters), parameters)
+
+    def test_methods_stand_in_their_classes(self):
+        module = import_module("castchains.registers")
+        for name, methods in METHODS.items():
+            for method, kind in methods.items():
+                with self.subTest(name=name, method=method):
+                    self.assertIs(type(vars(getattr(module, name))[method]), kind)
 
     def test_sizes_and_characters(self):
         for path in files():
